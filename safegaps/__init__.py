@@ -1,0 +1,1 @@
+"""Safegaps: pages made from forms with gaps."""
