@@ -4,6 +4,7 @@ Each function at_.. tells where a sign leads from one mode, with these tags and 
 surroundings, or to None where the sign cannot stand.
 """
 
+from safegaps.errors import NoPage
 from safegaps.signs import FIGURES, PLAIN, SMALL, is_page_sign, is_script_sign, is_waved
 
 START = ("text", (), "")
@@ -292,6 +293,17 @@ def go_over(state, text):
             return (here, at)
         here = behind
     return (here, len(text))
+
+
+def check_led(state, text, modes, ends):
+    """Refuses NoPage where a sign leads out of these modes, or the text ends at none of ends."""
+    here = state
+    for at, sign in enumerate(text):
+        here = go_on(here, sign)
+        if here is None or here[0] not in modes:
+            raise NoPage(at)
+    if here[0] not in ends:
+        raise NoPage(len(text))
 
 
 def gap_kind(state):

@@ -78,6 +78,16 @@ def object_names(path):
             yield node.attr
 
 
+def local_names(path):
+    """The parameters of the file's functions, and what is given a value within them."""
+    for node in nodes(path, ast.FunctionDef, ast.Lambda):
+        for part in ast.walk(node):
+            if isinstance(part, ast.arg):
+                yield part.arg
+            elif isinstance(part, ast.Name) and isinstance(part.ctx, ast.Store):
+                yield part.id
+
+
 def on_each_file(check):
     def test(self):
         self.assertTrue(FILES)
@@ -205,6 +215,25 @@ class LanguageTest(unittest.TestCase):
         for node in nodes(path, ast.Attribute):
             self.assertNotIn(node.attr, ("open", "input", "format", "format_map", "mro", "register", "elements"))
             self.assertIn(node.attr, METHODS + own + ["__init__"], node.lineno)
+
+    @on_each_file
+    def test_locals_leave_classes_and_imports_alone(self, path):
+        taken = [alias.name for node in nodes(path, ast.ImportFrom) for alias in node.names]
+        taken += [node.name for node in nodes(path, ast.ClassDef)]
+        for name in local_names(path):
+            self.assertNotIn(name, taken)
+
+    def test_no_name_is_a_method_here_and_a_value_there(self):
+        methods = []
+        values = []
+        for path in FILES:
+            for node in nodes(path, ast.ClassDef):
+                names = [part.name for part in node.body if isinstance(part, ast.FunctionDef)]
+                self.assertEqual(len(names), len(set(names)), node.name)
+                methods += names
+            values += [node.attr for node in nodes(path, ast.Attribute) if isinstance(node.ctx, ast.Store)]
+        self.assertEqual(set(methods) & set(values), set())
+        self.assertEqual(set(values) & set(METHODS) - {"count", "index", "find", "get", "join", "copy"}, set())
 
     @on_each_file
     def test_words(self, path):

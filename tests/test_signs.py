@@ -8,42 +8,15 @@ from safegaps.signs import (
     FIGURES, PLAIN, SIGNS, SMALL, address_read, address_written, is_text, page_read, page_written, script_read,
     script_written,
 )
+from tests.helping import ALL_PLAIN, ALL_SIGNS, Refusing, address_sign, page_sign, script_sign, wave
 
-ALL_SIGNS = ["\n"] + [chr(number) for number in range(32, 127) if number != 37]
-ALL_PLAIN = [sign for sign in ALL_SIGNS if sign.isalnum() or sign in "-._"]
 NO_SIGNS = ["\t", "%", "\r", "\x00", "\x0b", "\x1f", "\x7f", "\x80", "\xa0", "\xe9", "\u2028", "\ud800", "\U0001f600"]
-PAGE = {"&": "&a;", "<": "&l;", ">": "&g;", '"': "&q;"}
-SCRIPT = {"'": "^q", "^": "^c", "<": "^l", "\n": "^n"}
-
-
-def page_sign(sign):
-    return PAGE.get(sign, sign)
-
-
-def wave(sign):
-    return f"~{ord(sign):02x}"
-
-
-def address_sign(sign):
-    return sign if sign in ALL_PLAIN else wave(sign)
-
-
-def script_sign(sign):
-    return SCRIPT.get(sign, sign)
-
 
 WAYS = (
     (page_written, page_read, page_sign),
     (address_written, address_read, address_sign),
     (script_written, script_read, script_sign),
 )
-
-
-class Refusing(unittest.TestCase):
-    def assert_refused(self, read, text, at):
-        with self.assertRaises(NoPage, msg=repr(text)) as caught:
-            read(text)
-        self.assertEqual(caught.exception.at, at, repr(text))
 
 
 class TextTest(unittest.TestCase):
