@@ -44,26 +44,35 @@ def forms_in(node):
     return node[2:]
 
 
+class Joining:
+    """A form that is put together from the left, its texts joined."""
+
+    def __init__(self):
+        self.nodes = []
+        self.texts = []
+
+    def put_text(self, text):
+        """Puts a text behind what is there."""
+        self.texts.append(text)
+
+    def put_node(self, node):
+        """Puts a node, no text, behind what is there."""
+        self.nodes = self.so_far()
+        self.nodes.append(node)
+        self.texts = []
+
+    def so_far(self):
+        """A list of the nodes that are there."""
+        words = "".join(self.texts)
+        return self.nodes + ([] if words == "" else [("text", words)])
+
+
 def joined_form(form):
     """The form with neighbouring texts put together and empty ones left out, within its forms, too."""
-    nodes = []
-    texts = []
+    joining = Joining()
     for node in form:
         if node[0] == "text":
-            texts.append(node[1])
+            joining.put_text(node[1])
         else:
-            nodes.extend(joined_texts(texts))
-            nodes.append(joined_node(node))
-            texts = []
-    return tuple(nodes + joined_texts(texts))
-
-
-def joined_texts(texts):
-    """A list of the one text node that these make together, or of none where they have no signs."""
-    words = "".join(texts)
-    return [] if words == "" else [("text", words)]
-
-
-def joined_node(node):
-    """The node, no text, with the forms in it joined."""
-    return node[:2] + tuple([joined_form(form) for form in forms_in(node)])
+            joining.put_node(node[:2] + tuple([joined_form(inner) for inner in forms_in(node)]))
+    return tuple(joining.so_far())

@@ -6,7 +6,7 @@ import random
 import unittest
 
 from safegaps.forms import is_form, joined_form
-from tests.helping import ALL_SIGNS, EVERY_SIGN
+from tests.helping import ALL_SIGNS, EVERY_SIGN, NO_SIGNS, OTHERS, plainly_joined
 
 TEXT = ("text", "a")
 GAP = ("gap", "a")
@@ -18,26 +18,6 @@ NODES = (TEXT, GAP, EMPTY, CHOICE, EACH, USE, ("if", "b", (), ()), ("each", "b",
 WORDS = ("if", "each", "use", "else", "end")
 NAMES = ("a", "z", "ab", "abcdefg", "abcdefgh", "text", "gap", "code", "iff", "i", "uses", "ends", "elsee", "true", "none")
 NO_NAMES = ("", "abcdefghi", "A", "aB", "a1", "1", "a b", " a", "a ", "a-", "_", "a\n", "\n", "\xe9", "\u0430", "a.b", "{a}")
-NO_SIGNS = ("\t", "%", "\r", "\x00", "\x1f", "\x7f", "\x80", "\xe9", "\u2028", "\ud800", "\U0001f600")
-
-
-class Odd:
-    """A thing that can neither be compared nor hashed nor shown."""
-
-    __hash__ = None
-
-    def __eq__(self, other):
-        raise RuntimeError
-
-    def __repr__(self):
-        raise RuntimeError
-
-
-OTHERS = (
-    None, True, False, 0, 1, -1, 10 ** 5000, 2.5, float("nan"), "", "a", "text", b"", b"a", [], {}, set(), frozenset(), object(),
-    Odd(), str, tuple, len, range(3), [TEXT], [GAP, GAP], {"text": "a"}, {"a": ()}, {TEXT}, bytearray(b"a"), iter(()),
-    ValueError("a"), ["text", "a"],
-)
 
 
 class IsFormTest(unittest.TestCase):
@@ -219,21 +199,6 @@ JOINED = (
     ((("each", "a", (("if", "b", texts("c", "d"), (("each", "e", texts("", "f", "g")),)),)),),
      (("each", "a", (("if", "b", texts("cd"), (("each", "e", texts("fg")),)),)),)),
 )
-
-
-def plainly_joined(form):
-    """The form joined as point 15 tells, one step after another."""
-    nodes = []
-    for node in form:
-        if node[0] == "text" and nodes and nodes[-1][0] == "text":
-            nodes[-1] = ("text", nodes[-1][1] + node[1])
-        elif node[0] in ("if", "each"):
-            nodes.append(node[:2] + tuple(plainly_joined(inner) for inner in node[2:]))
-        else:
-            nodes.append(node)
-        if nodes[-1] == ("text", ""):
-            nodes.pop()
-    return tuple(nodes)
 
 
 def some_form(chance, depth):
