@@ -118,7 +118,7 @@ class FormMaker:
         self.chance = random.Random(seed)
 
     def form(self, depth=3):
-        return tuple(self.content(depth))
+        return tuple(self.content(depth) + self.element(depth) + self.content(depth))
 
     def words(self):
         length = self.chance.choice((0, 1, 1, 2, 4))

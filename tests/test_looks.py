@@ -448,7 +448,7 @@ class LetByTest(Looking):
     def test_forms_made_by_chance(self):
         maker = FormMaker(16)
         for count in range(400):
-            form = maker.form(4)
+            form = maker.form()
             self.assertIs(let_by(form), True)
             state, gaps = look_through(form)
             self.assertEqual(state, START)
@@ -510,7 +510,7 @@ class RefusedTest(Looking):
         maker = FormMaker(17)
         counts = {None: 0, Stuck: 0, NoGap: 0, Unlike: 0, Unended: 0}
         for count in range(3000):
-            form = spoiled(maker.chance, maker.form(4))
+            form = spoiled(maker.chance, maker.form())
             refused = refusal(let_by, form)
             if refused is None:
                 counts[None] += 1
@@ -555,7 +555,7 @@ class CutTest(Looking):
     def test_forms_made_by_chance(self):
         maker = FormMaker(18)
         for count in range(60):
-            form = maker.form(3)
+            form = maker.form(2)
             self.check(form)
             self.check(spoiled(maker.chance, form))
 
